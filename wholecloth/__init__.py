@@ -1,0 +1,1 @@
+"""Wholecloth: transactions over replicated groups of keys, on machines that fail."""
