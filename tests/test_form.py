@@ -10,8 +10,38 @@ BUILTINS = set(
     "len range enumerate zip min max sum abs sorted reversed int str bool list tuple dict set isinstance ord repr any "
     "all divmod pow iter next map Exception ValueError TypeError KeyError IndexError LookupError ZeroDivisionError "
     "ArithmeticError OverflowError RuntimeError NotImplementedError NotImplemented".split())
+# What no attribute is called, and what nothing at all is called.
+NO_ATTRIBUTES = set(
+    "items keys values pop update append clear extend insert remove reverse setdefault sort args encode decode hex "
+    "fromhex format format_map mro".split())
+NO_NAMES = set("register mro elements open input law version_info with_traceback add_note".split())
 BANNED = (ast.Global, ast.AsyncFunctionDef, ast.AsyncFor, ast.AsyncWith, ast.Await)
 MODULE_LEVEL = (ast.Expr, ast.ImportFrom, ast.FunctionDef, ast.ClassDef, ast.Assign)
+
+
+def name_of(node):
+    """The name that a node binds or reads, or None."""
+    for field in ("id", "attr", "arg", "name"):
+        if isinstance(getattr(node, field, None), str):
+            return getattr(node, field)
+    return None
+
+
+def classes():
+    return [node for path in files() for node in nodes(path) if isinstance(node, ast.ClassDef)]
+
+
+def methods(node):
+    return [row for row in node.body if isinstance(row, ast.FunctionDef)]
+
+
+def properties():
+    return {row.name for node in classes() for row in methods(node) if row.decorator_list}
+
+
+def stored(node):
+    """The names of the attributes that are assigned somewhere in a node."""
+    return {row.attr for row in ast.walk(node) if isinstance(row, ast.Attribute) and isinstance(row.ctx, ast.Store)}
 
 
 def files():
@@ -65,11 +95,36 @@ class Form(unittest.TestCase):
     def test_builtins(self):
         for path in files():
             for node in nodes(path):
-                if isinstance(node, ast.Name) and hasattr(builtins, node.id):
+                if isinstance(node, ast.Name) and hasattr(builtins, node.id) and node.id != "property":
                     self.assertIn(node.id, BUILTINS, f"{path}:{node.lineno}")
                     self.assertIsInstance(node.ctx, ast.Load, f"{path}:{node.lineno}")
                 if isinstance(node, ast.arg):
                     self.assertFalse(hasattr(builtins, node.arg), f"{path}:{node.lineno}")
+
+    def test_names(self):
+        for path in files():
+            for node in nodes(path):
+                name = name_of(node)
+                self.assertNotIn(name, NO_NAMES, path)
+                if name is not None and not isinstance(node, ast.Attribute):
+                    self.assertRegex(name, "^(__init__|[a-zA-Z][a-zA-Z0-9_]*|_)$", path)
+            self.assertEqual(stored(ast.parse(path.read_text(encoding="utf-8"))) & NO_ATTRIBUTES, set(), path)
+
+    def test_decorators_stand_over_properties(self):
+        for path in files():
+            for node in nodes(path):
+                for decorator in getattr(node, "decorator_list", []):
+                    self.assertEqual(ast.unparse(decorator), "property", f"{path}:{node.lineno}")
+        for path in files():
+            self.assertEqual(stored(ast.parse(path.read_text(encoding="utf-8"))) & properties(), set(), path)
+
+    def test_methods_and_attributes_have_different_names(self):
+        for node in classes():
+            names = [row.name for row in methods(node)]
+            self.assertEqual(len(names), len(set(names)), node.name)
+            self.assertEqual(stored(node) & set(names), set(), node.name)
+            plain = {row.name for row in methods(node) if not row.decorator_list}
+            self.assertEqual(plain & properties(), set(), node.name)
 
     def test_strings(self):
         for path in files():

@@ -7,6 +7,8 @@ import pathlib
 import unittest
 
 from wholecloth import errors
+from wholecloth.disk import Disk
+from wholecloth.journal import Journal
 
 FUNCTIONS = {
     "wholecloth.meaning": {
@@ -14,7 +16,31 @@ FUNCTIONS = {
         "replay": ["deals"],
     },
     "wholecloth.codes": {"flatten": ["record"], "rebuild": ["cells"]},
+    "wholecloth.stretches": {
+        "overlap": ["first", "second"], "clip": ["first", "second"], "inside": ["first", "second"],
+    },
+    "wholecloth.table": {"table_of": ["picture"]},
 }
+# For each class: its arguments, its methods with theirs, its properties, its fields.
+CLASSES = {
+    ("wholecloth.disk", "Disk"): (
+        [],
+        {"write": ["position", "block"], "sync": [], "crash": ["fates"], "look": ["position"], "wipe": []},
+        ["size", "waiting"],
+        [],
+    ),
+    ("wholecloth.journal", "Journal"): (["disk"], {"enter": ["record", "sync"]}, [], ["records", "generation"]),
+    ("wholecloth.table", "Table"): (
+        ["low", "high"],
+        {
+            "run": ["command"], "value": ["key", "time"], "versions": ["key"], "prepared": [], "decision": ["deal"],
+            "picture": [],
+        },
+        [],
+        ["low", "high", "signs", "part"],
+    ),
+}
+MADE = {"Disk": (), "Journal": (Disk(),), "Table": (0, 1000)}
 ERRORS = ("BadDeal", "BadRecord", "BadHistory", "BadLine")
 README = pathlib.Path(__file__).resolve().parent.parent / "README.md"
 
@@ -27,6 +53,35 @@ class Functions(unittest.TestCase):
                 self.assertTrue(inspect.isfunction(function))
                 self.assertEqual(function.__module__, module)
                 self.assertEqual(list(inspect.signature(function).parameters), arguments)
+
+
+def arguments_of(function):
+    return [name for name in inspect.signature(function).parameters if name != "self"]
+
+
+class Classes(unittest.TestCase):
+    def test_names_and_arguments(self):
+        for (module, name), (arguments, methods, properties, _) in CLASSES.items():
+            kind = getattr(importlib.import_module(module), name)
+            self.assertTrue(inspect.isclass(kind))
+            self.assertEqual(kind.__module__, module)
+            self.assertEqual(arguments_of(kind), arguments)
+            for method, expected in methods.items():
+                self.assertTrue(inspect.isfunction(vars(kind)[method]), (name, method))
+                self.assertEqual(arguments_of(vars(kind)[method]), expected, (name, method))
+            for attribute in properties:
+                self.assertIsInstance(vars(kind)[attribute], property, (name, attribute))
+
+    def test_fields_are_set_at_once(self):
+        for (module, name), (_, _, _, fields) in CLASSES.items():
+            made = getattr(importlib.import_module(module), name)(*MADE[name])
+            for field in fields:
+                self.assertIn(field, vars(made), (name, field))
+
+    def test_sync_is_a_keyword(self):
+        parameter = inspect.signature(Journal.enter).parameters["sync"]
+        self.assertIs(parameter.kind, inspect.Parameter.KEYWORD_ONLY)
+        self.assertIs(parameter.default, False)
 
 
 class Errors(unittest.TestCase):

@@ -3,16 +3,10 @@
 import copy
 import unittest
 
+from helpers import numbers
 from wholecloth.meaning import changes, check_deal, execute, replay, spans
 
 TOP = 10 ** 18
-
-
-def numbers(seed):
-    """Yield numbers that look arbitrary, the same ones each time."""
-    while True:
-        seed = (seed * 6364136223846793005 + 1442695040888963407) % 2 ** 64
-        yield seed >> 33
 
 
 def some_operation(source):
