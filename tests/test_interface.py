@@ -7,6 +7,7 @@ import pathlib
 import unittest
 
 from wholecloth import errors
+from wholecloth.counter import Counter
 from wholecloth.disk import Disk
 from wholecloth.journal import Journal
 
@@ -20,6 +21,7 @@ FUNCTIONS = {
         "overlap": ["first", "second"], "clip": ["first", "second"], "inside": ["first", "second"],
     },
     "wholecloth.table": {"table_of": ["picture"]},
+    "wholecloth.machine": {"found": ["identity", "disk", "groups"]},
 }
 # For each class: its arguments, its methods with theirs, its properties, its fields.
 CLASSES = {
@@ -39,8 +41,37 @@ CLASSES = {
         [],
         ["low", "high", "signs", "part"],
     ),
+    ("wholecloth.counter", "Counter"): (["last"], {"run": ["command"], "picture": []}, [], ["last"]),
+    ("wholecloth.replica", "Replica"): (
+        ["me", "group", "base"],
+        {
+            "stand": [], "nudge": [], "take": ["sender", "letter"], "propose": ["command", "token"], "synced": [],
+            "shorten": [], "adopt": ["base"],
+        },
+        ["last_index", "members"],
+        ["me", "group", "term", "voted", "base", "entries", "role", "leader", "committed", "applied", "durable",
+         "state", "ledger", "records", "letters", "answers", "births"],
+    ),
+    ("wholecloth.machine", "Machine"): (
+        ["identity", "disk"],
+        {
+            "take": ["sender", "letter"], "call": ["client", "letter"], "stand": ["group"], "nudge": ["group"],
+            "shorten": ["group"], "sync": [], "applied": [], "released": [],
+        },
+        [],
+        ["identity", "disk", "journal", "replicas"],
+    ),
+    ("wholecloth.clerk", "Clerk"): (
+        ["client", "machines", "deals"],
+        {"act": [], "forget": [], "hear": ["letter"], "events": [], "idle": []},
+        [],
+        ["client", "deals", "number", "busy", "places"],
+    ),
 }
-MADE = {"Disk": (), "Journal": (Disk(),), "Table": (0, 1000)}
+MADE = {
+    "Disk": (), "Journal": (Disk(),), "Table": (0, 1000), "Counter": (), "Replica": (0, 1, None),
+    "Machine": (0, Disk()), "Clerk": (0, 3, []),
+}
 ERRORS = ("BadDeal", "BadRecord", "BadHistory", "BadLine")
 README = pathlib.Path(__file__).resolve().parent.parent / "README.md"
 
@@ -77,6 +108,9 @@ class Classes(unittest.TestCase):
             made = getattr(importlib.import_module(module), name)(*MADE[name])
             for field in fields:
                 self.assertIn(field, vars(made), (name, field))
+
+    def test_a_counter_begins_with_0(self):
+        self.assertEqual(inspect.signature(Counter).parameters["last"].default, 0)
 
     def test_sync_is_a_keyword(self):
         parameter = inspect.signature(Journal.enter).parameters["sync"]
