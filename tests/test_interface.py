@@ -22,6 +22,10 @@ FUNCTIONS = {
     },
     "wholecloth.table": {"table_of": ["picture"]},
     "wholecloth.machine": {"found": ["identity", "disk", "groups"]},
+    "wholecloth.feeds": {
+        "feed": ["table", "after", "upto"], "state_at": ["table", "time"], "follow": ["state", "triples"],
+    },
+    "wholecloth.judge": {"judge": ["history"]},
 }
 # For each class: its arguments, its methods with theirs, its properties, its fields.
 CLASSES = {
@@ -67,10 +71,17 @@ CLASSES = {
         [],
         ["client", "deals", "number", "busy", "places"],
     ),
+    ("wholecloth.world", "World"): (
+        ["machines", "members", "deals"],
+        {"choose": ["choice"], "may_wipe": ["machine"], "settle": [], "story": [], "view": []},
+        [],
+        ["net", "machines", "identities", "disks", "clerks", "groups", "history", "wiped", "ledgers", "tables"],
+    ),
+    ("wholecloth.desk", "Desk"): ([], {"do": ["line"]}, [], []),
 }
 MADE = {
     "Disk": (), "Journal": (Disk(),), "Table": (0, 1000), "Counter": (), "Replica": (0, 1, None),
-    "Machine": (0, Disk()), "Clerk": (0, 3, []),
+    "Machine": (0, Disk()), "Clerk": (0, 3, []), "World": (3, 3, []), "Desk": (),
 }
 ERRORS = ("BadDeal", "BadRecord", "BadHistory", "BadLine")
 README = pathlib.Path(__file__).resolve().parent.parent / "README.md"

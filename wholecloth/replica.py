@@ -163,9 +163,9 @@ class Replica:
         """Become the leader with the votes of a majority of the members."""
         members = self.members
         if is_majority([member for member in members if member in self.votes], members):
-            self.lead()
+            self.take_lead()
 
-    def lead(self):
+    def take_lead(self):
         """Become the leader."""
         self.role = LEADER
         self.leader = self.me
