@@ -66,10 +66,10 @@ class Clerk:
         word, token, content = letter
         if token not in self.calls:
             return []
-        if word == "lost":
-            self.calls[token].hint = content
-            return []
         call = self.calls[token]
+        if word == "lost":
+            call.hint = content
+            return []
         del self.calls[token]
         return self.sent(self.answered(call, content))
 

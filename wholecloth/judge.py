@@ -70,9 +70,12 @@ class Record:
 
     def tell(self, name, outcome, results):
         """Note what was told of a deal."""
-        if name not in self.deals or self.deals[name].answer is not None:
-            raise BadHistory("a deal is told once, after it was asked")
-        self.deals[name].answer = (outcome, results)
+        if name not in self.deals:
+            raise BadHistory("a deal is told after it was asked")
+        deal = self.deals[name]
+        if deal.answer is not None:
+            raise BadHistory("a deal is told once")
+        deal.answer = (outcome, results)
 
     def told(self):
         """Return the list of the names of the deals that were told."""
